@@ -1,37 +1,63 @@
 // Package coherent: a machine of caches that several cores share: see DOC.md.
 package coherent
 
-import "coherent/api"
+import (
+	"coherent/api"
+	"coherent/cache"
+)
 
 // Machine is caches and memory.
-type Machine struct{}
+type Machine struct {
+	config api.Config
+	firsts [api.MaxCores]cache.Cache
+	last   cache.Cache
+	states [api.MaxCores][api.Lines]int // what each core has of each line; of a core that there is not, None
+	lasts  [api.Lines]int               // what the last cache has of each line
+	words  [api.Addrs]int               // as they were stored last, by whichever core
+	memory [api.Addrs]int               // as they stand in the memory
+	counts api.Counts                   // without Psel, which the last cache keeps
+}
 
 // Check tells whether there is such a machine (P4).
-func Check(c api.Config) api.Errno { return api.OK }
+func Check(c api.Config) api.Errno {
+	if c.Cores < 1 || c.Cores > api.MaxCores {
+		return api.ErrCores
+	}
+	if !isSize(c.Sets) || !isSize(c.LastSets) {
+		return api.ErrSets
+	}
+	if !isSize(c.Ways) || !isSize(c.LastWays) {
+		return api.ErrWays
+	}
+	if c.Policy != api.Oldest && c.Policy != api.Tree {
+		return api.ErrPolicy
+	}
+	if c.LastPolicy < api.Oldest || c.LastPolicy > api.Dueling {
+		return api.ErrPolicy
+	}
+	return api.OK
+}
+
+// isSize tells whether a cache can have so many sets, or a set so many ways.
+func isSize(n int) bool {
+	return n == 1 || n == 2 || n == 4 || n == 8
+}
 
 // New makes a machine (P4).
-func New(c api.Config) (*Machine, api.Errno) { return nil, api.OK }
+func New(c api.Config) (*Machine, api.Errno) {
+	wrong := Check(c)
+	if wrong != api.OK {
+		return nil, wrong
+	}
+	m := &Machine{config: c}
+	m.empty()
+	return m, api.OK
+}
 
-// Load reads a word (P6).
-func (m *Machine) Load(core int, addr int) (int, int, api.Errno) { return 0, 0, api.OK }
-
-// Store writes a word (P7).
-func (m *Machine) Store(core int, addr int, value int) (int, api.Errno) { return 0, api.OK }
-
-// Evict takes a line out of a core's first cache (P8).
-func (m *Machine) Evict(core int, line int) api.Errno { return api.OK }
-
-// State tells what a core has of a line (P9).
-func (m *Machine) State(core int, line int) (int, api.Errno) { return 0, api.OK }
-
-// Last tells what the last cache has of a line (P9).
-func (m *Machine) Last(line int) (int, api.Errno) { return 0, api.OK }
-
-// Memory tells what stands in the memory (P9).
-func (m *Machine) Memory(addr int) (int, api.Errno) { return 0, api.OK }
-
-// Counts tells what has happened (P9).
-func (m *Machine) Counts() (api.Counts, api.Errno) { return api.Counts{}, api.OK }
-
-// Drain empties all caches (P10).
-func (m *Machine) Drain() api.Errno { return api.OK }
+// Store writes a word (P7). It is not built yet, and changes nothing.
+func (m *Machine) Store(core int, addr int, value int) (int, api.Errno) {
+	if m == nil {
+		return 0, api.ErrNil
+	}
+	return 0, api.OK
+}

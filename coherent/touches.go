@@ -33,30 +33,13 @@ func checkTouches(policy int, ways int, lines []int) api.Errno {
 	return api.OK
 }
 
-// isSize tells whether a cache can have so many sets, or a set so many ways.
-func isSize(n int) bool {
-	return n == 1 || n == 2 || n == 4 || n == 8
-}
-
 // touchAll touches the lines one after the other in a new set.
 func touchAll(policy int, ways int, lines []int) []api.Touch {
 	s := set.New(ways)
 	ranks := set.Ranks{}
 	answers := make([]api.Touch, len(lines))
 	for i, line := range lines {
-		answers[i] = touch(&s, &ranks, policy, line)
+		answers[i] = s.Touch(policy, &ranks, line)
 	}
 	return answers
-}
-
-// touch finds the line in the set, or puts it in.
-func touch(s *set.Set, ranks *set.Ranks, policy int, line int) api.Touch {
-	way := s.Find(line)
-	if way != set.NoWay {
-		s.Found(way)
-		return api.Touch{Hit: true, Way: way, Out: set.Empty}
-	}
-	rank := ranks.Next(policy)
-	way, out := s.Put(policy, line, rank)
-	return api.Touch{Hit: false, Way: way, Out: out}
 }

@@ -234,10 +234,11 @@ func TestTouchesAnswersAreTheCallers(t *testing.T) {
 // wantModel holds one call against the model.
 func wantModel(t *testing.T, policy int, ways int, lines []int) {
 	t.Helper()
-	m := newModel(policy, ways)
+	m := newModel(ways)
+	rares := 0
 	var want []api.Touch
 	for _, line := range lines {
-		want = append(want, m.touch(line))
+		want = append(want, m.touch(policy, &rares, line))
 	}
 	got, e := coherent.Touches(policy, ways, lines)
 	if e != api.OK || !slices.Equal(got, want) {

@@ -86,6 +86,73 @@ func TestImpossibleNumbersDoNotPanic(t *testing.T) {
 	}
 }
 
+func TestRemoveEmptiesOneWayAndTouchesNone(t *testing.T) {
+	s := New(4)
+	for line := 1; line <= 4; line++ {
+		s.Put(api.Static, line, usualRank)
+	}
+	s.Found(1)
+	before := s
+	s.Remove(3)
+	if s.Find(3) != NoWay || s.Find(Empty) != 2 || s.ages != before.ages || s.ranks != before.ranks {
+		t.Errorf("Remove(3): %v, before %v", s, before)
+	}
+	s.lines[2] = 3
+	if s != before {
+		t.Errorf("Remove(3) changed other ways: %v, before %v", s, before)
+	}
+}
+
+func TestRemoveOfALineThatIsNotThere(t *testing.T) {
+	for _, ways := range []int{1, 2, 4, 8} {
+		s := New(ways)
+		s.Put(api.Oldest, 5, usualRank)
+		before := s
+		for _, line := range []int{-1 << 63, Empty, 0, 4, 6, 1<<63 - 1} {
+			s.Remove(line)
+		}
+		if s != before {
+			t.Errorf("%d ways: %v, before %v", ways, s, before)
+		}
+	}
+}
+
+// A way that was emptied is filled before any line has to go, and is the youngest then.
+func TestPutFillsTheRemovedWay(t *testing.T) {
+	for _, policy := range []int{api.Oldest, api.Tree, api.Static, api.Rare} {
+		s := New(4)
+		r := Ranks{}
+		for line := 1; line <= 4; line++ {
+			s.Touch(policy, &r, line)
+		}
+		s.Remove(4)
+		s.Remove(2)
+		if got := s.Touch(policy, &r, 5); got != (api.Touch{Way: 1, Out: Empty}) {
+			t.Errorf("policy %d: line 5: %+v, want way 1, none out", policy, got)
+		}
+		if got := s.Touch(policy, &r, 6); got != (api.Touch{Way: 3, Out: Empty}) {
+			t.Errorf("policy %d: line 6: %+v, want way 3, none out", policy, got)
+		}
+		if got := s.Touch(policy, &r, 7); got != (api.Touch{Way: 0, Out: 1}) {
+			t.Errorf("policy %d: line 7: %+v, want way 0, line 1 out", policy, got)
+		}
+	}
+}
+
+func TestTouchFindsOrPutsIn(t *testing.T) {
+	s := New(2)
+	r := Ranks{}
+	for i, want := range []api.Touch{{Way: 0, Out: Empty}, {Way: 1, Out: Empty}, {Hit: true, Way: 0, Out: Empty}, {Way: 1, Out: 2}} {
+		line := []int{1, 2, 1, 3}[i]
+		if got := s.Touch(api.Rare, &r, line); got != want {
+			t.Errorf("touch %d, line %d: %+v, want %+v", i, line, got, want)
+		}
+	}
+	if s.ranks[0] != foundRank || s.ranks[1] != victimRank || r.rares != 3 {
+		t.Errorf("ranks %v, %d rares", s.ranks, r.rares)
+	}
+}
+
 func TestRanksNext(t *testing.T) {
 	r := Ranks{}
 	for put := 1; put <= 40; put++ {
