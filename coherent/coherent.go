@@ -53,11 +53,3 @@ func New(c api.Config) (*Machine, api.Errno) {
 	m.empty()
 	return m, api.OK
 }
-
-// Store writes a word (P7). It is not built yet, and changes nothing.
-func (m *Machine) Store(core int, addr int, value int) (int, api.Errno) {
-	if m == nil {
-		return 0, api.ErrNil
-	}
-	return 0, api.OK
-}

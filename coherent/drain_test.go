@@ -1,6 +1,7 @@
 package coherent_test
 
 import (
+	"slices"
 	"testing"
 
 	"coherent/api"
@@ -84,13 +85,13 @@ func TestDrainDoesNotCountLostCopies(t *testing.T) {
 func TestDrainWritesEachNewerLineOnce(t *testing.T) {
 	m := newMachine(t, oneSet(2, 4, 4))
 	loadLines(t, m, 0, 0, 1, 2, 63)
-	coherent.Soil(m, 0, 0, 10)
+	wantStore(t, m, 0, 0, 10, api.First)
 	evict(t, m, 0, 0)
-	coherent.Soil(m, 0, 7, 11)
-	coherent.Soil(m, 0, 8, 12)
+	wantStore(t, m, 0, 7, 11, api.First)
+	wantStore(t, m, 0, 8, 12, api.First)
 	evict(t, m, 0, 2)
 	wantLoad(t, m, 1, 8, 12, api.Last)
-	coherent.Soil(m, 1, 9, 13)
+	wantStore(t, m, 1, 9, 13, api.First)
 	wantStates(t, m, 2, api.None, api.Dirty)
 	wantLast(t, m, 2, api.Changed)
 	drain(t, m)
@@ -109,10 +110,105 @@ func TestDrainWritesEachNewerLineOnce(t *testing.T) {
 		}
 		wantMemory(t, m, addr, want)
 	}
-	wantCounts(t, m, api.Counts{Loads: 5, Lasts: 1, Fetches: 4, Writes: 3, Psel: 7})
+	wantCounts(t, m, api.Counts{Loads: 5, Stores: 4, Firsts: 4, Lasts: 1, Fetches: 4, Writes: 3, Psel: 7})
 	drain(t, m)
-	wantCounts(t, m, api.Counts{Loads: 5, Lasts: 1, Fetches: 4, Writes: 3, Psel: 7})
+	wantCounts(t, m, api.Counts{Loads: 5, Stores: 4, Firsts: 4, Lasts: 1, Fetches: 4, Writes: 3, Psel: 7})
 	wantLoad(t, m, 0, 9, 13, api.Memory)
 	wantStates(t, m, 2, api.Alone, api.None)
 	wantLast(t, m, 2, api.Clean)
+}
+
+// scatter makes 400 loads and stores, and holds each value against what was stored last.
+func scatter(t *testing.T, m *coherent.Machine, words *[api.Addrs]int) []int {
+	t.Helper()
+	var places []int
+	for i := range 400 {
+		core, addr := i*i%4, i*i*7%256
+		if i%3 == 0 {
+			words[addr]++
+			p, e := m.Store(core, addr, words[addr])
+			if e != api.OK {
+				t.Errorf("P7: store %d: error %d", i, e)
+			}
+			places = append(places, p)
+			continue
+		}
+		v, p, e := m.Load(core, addr)
+		if v != words[addr] || e != api.OK {
+			t.Errorf("P6: load %d of %d: %d, %d, want %d, OK", i, addr, v, e, words[addr])
+		}
+		places = append(places, p)
+	}
+	return places
+}
+
+// Behind a Drain all goes as at first, but for the words in the memory and the counts, which go on.
+func TestDrainBehindStores(t *testing.T) {
+	for _, policy := range []int{api.Oldest, api.Tree, api.Static, api.Rare, api.Dueling} {
+		c := api.Config{Cores: 4, Sets: 2, Ways: 2, Policy: api.Oldest, LastSets: 4, LastWays: 2, LastPolicy: policy}
+		m := newMachine(t, c)
+		words := [api.Addrs]int{}
+		places := scatter(t, m, &words)
+		once, _ := m.Counts()
+		newer := 0
+		for line := range api.Lines {
+			if isNewer(m, line) {
+				newer++
+			}
+		}
+		if newer == 0 {
+			t.Error("no line is newer than in the memory before the Drain")
+		}
+		drain(t, m)
+		wantEmpty(t, m, 4)
+		for addr := range api.Addrs {
+			wantMemory(t, m, addr, words[addr])
+		}
+		want := once
+		want.Writes += newer
+		want.Psel = api.PselMid
+		wantCounts(t, m, want)
+		if again := scatter(t, m, &words); !slices.Equal(again, places) {
+			t.Error("P10: behind a Drain lines are found in other places than at first")
+		}
+		twice := api.Counts{
+			Loads: 2 * once.Loads, Stores: 2 * once.Stores,
+			Firsts: 2 * once.Firsts, Lasts: 2 * once.Lasts, Fetches: 2 * once.Fetches,
+			Upgrades: 2 * once.Upgrades, Takens: 2 * once.Takens, Backs: 2 * once.Backs,
+			Writes: 2*once.Writes + newer, Psel: once.Psel,
+		}
+		wantCounts(t, m, twice)
+	}
+}
+
+// isNewer: the line is Changed in the last cache, or a core has it Dirty.
+func isNewer(m *coherent.Machine, line int) bool {
+	last, _ := m.Last(line)
+	newer := last == api.Changed
+	for core := range 4 {
+		s, _ := m.State(core, line)
+		newer = newer || s == api.Dirty
+	}
+	return newer
+}
+
+// What was written by a Drain is Clean when it is fetched again, and not written again by the next.
+func TestDrainThenLoadThenDrain(t *testing.T) {
+	m := newMachine(t, oneSet(2, 1, 2))
+	wantStore(t, m, 0, 0, 5, api.Memory)
+	wantStore(t, m, 1, 255, 6, api.Memory)
+	drain(t, m)
+	wantLoad(t, m, 1, 0, 5, api.Memory)
+	wantStates(t, m, 0, api.None, api.Alone)
+	wantLast(t, m, 0, api.Clean)
+	wantLoad(t, m, 0, 255, 6, api.Memory)
+	drain(t, m)
+	wantCounts(t, m, api.Counts{Loads: 2, Stores: 2, Fetches: 4, Writes: 2, Psel: 7})
+	wantStore(t, m, 1, 1, 7, api.Memory)
+	wantStates(t, m, 0, api.None, api.Dirty)
+	drain(t, m)
+	wantMemory(t, m, 0, 5)
+	wantMemory(t, m, 1, 7)
+	wantMemory(t, m, 255, 6)
+	wantCounts(t, m, api.Counts{Loads: 2, Stores: 3, Fetches: 5, Writes: 3, Psel: 7})
 }

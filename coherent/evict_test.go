@@ -4,7 +4,6 @@ import (
 	"testing"
 
 	"coherent/api"
-	"coherent/coherent"
 )
 
 func TestEvictEmptiesTheWay(t *testing.T) {
@@ -73,7 +72,7 @@ func TestEvictLeavesOtherCores(t *testing.T) {
 func TestEvictOfALineThatIsNotHeld(t *testing.T) {
 	m := newMachine(t, oneSet(2, 2, 2))
 	loadLines(t, m, 0, 0, 1)
-	coherent.Soil(m, 0, 4, 5)
+	wantStore(t, m, 0, 4, 5, api.First)
 	before := *m
 	for line := range api.Lines {
 		evict(t, m, 1, line)
@@ -101,7 +100,7 @@ func TestEvictDoesNotTouchTheLastCache(t *testing.T) {
 func TestEvictOfADirtyLine(t *testing.T) {
 	m := newMachine(t, oneSet(2, 1, 2))
 	loadLines(t, m, 0, 1)
-	coherent.Soil(m, 0, 6, -8)
+	wantStore(t, m, 0, 6, -8, api.First)
 	evict(t, m, 0, 1)
 	wantStates(t, m, 1, api.None, api.None)
 	wantLast(t, m, 1, api.Changed)
@@ -110,14 +109,14 @@ func TestEvictOfADirtyLine(t *testing.T) {
 	wantStates(t, m, 1, api.None, api.Alone)
 	evict(t, m, 1, 1)
 	wantLast(t, m, 1, api.Changed)
-	wantCounts(t, m, api.Counts{Loads: 2, Lasts: 1, Fetches: 1, Psel: 7})
+	wantCounts(t, m, api.Counts{Loads: 2, Stores: 1, Firsts: 1, Lasts: 1, Fetches: 1, Psel: 7})
 }
 
 // A Dirty line that has to go for another leaves as Evict says.
 func TestFullFirstSetWithADirtyLine(t *testing.T) {
 	m := newMachine(t, oneSet(1, 1, 2))
 	loadLines(t, m, 0, 1)
-	coherent.Soil(m, 0, 7, 11)
+	wantStore(t, m, 0, 7, 11, api.First)
 	wantLoad(t, m, 0, 0, 0, api.Memory)
 	wantStates(t, m, 1, api.None)
 	wantLast(t, m, 1, api.Changed)
@@ -126,5 +125,5 @@ func TestFullFirstSetWithADirtyLine(t *testing.T) {
 	wantLoad(t, m, 0, 8, 0, api.Memory)
 	wantLast(t, m, 1, api.Away)
 	wantMemory(t, m, 7, 11)
-	wantCounts(t, m, api.Counts{Loads: 3, Fetches: 3, Writes: 1, Psel: 7})
+	wantCounts(t, m, api.Counts{Loads: 3, Stores: 1, Firsts: 1, Fetches: 3, Writes: 1, Psel: 7})
 }

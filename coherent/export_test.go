@@ -2,12 +2,6 @@ package coherent
 
 import "coherent/api"
 
-// Soil lays a new word into a copy that the core has Alone or Dirty, and makes it Dirty, as the words of P5 to P10 about such lines need one before there are stores.
-func Soil(m *Machine, core int, addr int, value int) {
-	m.words[addr] = value
-	m.states[core][addr/api.Words] = api.Dirty
-}
-
 // Agrees tells whether the ways of all caches hold just the lines that the machine says they hold.
 func Agrees(m *Machine) bool {
 	for line := range m.lasts {

@@ -4,15 +4,14 @@ import (
 	"testing"
 
 	"coherent/api"
-	"coherent/coherent"
 )
 
-// The document's example, with Soil in place of its first store and its second left out.
+// Both copies of what was stored are lost by the drop, and the line is written once.
 func TestLoadOfWhatAnotherCoreHasDirty(t *testing.T) {
 	m := newMachine(t, oneSet(2, 2, 2))
 	wantLoad(t, m, 0, 5, 0, api.Memory)
 	wantStates(t, m, 1, api.Alone, api.None)
-	coherent.Soil(m, 0, 5, 70)
+	wantStore(t, m, 0, 5, 70, api.First)
 	wantStates(t, m, 1, api.Dirty, api.None)
 	wantLast(t, m, 1, api.Clean)
 	wantMemory(t, m, 5, 0)
@@ -26,7 +25,7 @@ func TestLoadOfWhatAnotherCoreHasDirty(t *testing.T) {
 	wantStates(t, m, 1, api.None, api.None)
 	wantLast(t, m, 1, api.Away)
 	wantMemory(t, m, 5, 70)
-	wantCounts(t, m, api.Counts{Loads: 4, Lasts: 1, Fetches: 3, Backs: 2, Writes: 1, Psel: 7})
+	wantCounts(t, m, api.Counts{Loads: 4, Stores: 1, Firsts: 1, Lasts: 1, Fetches: 3, Backs: 2, Writes: 1, Psel: 7})
 	wantLoad(t, m, 1, 5, 70, api.Memory)
 	wantLast(t, m, 1, api.Clean)
 }
@@ -233,14 +232,14 @@ func TestDropWritesWhatIsDirty(t *testing.T) {
 	m := newMachine(t, oneSet(1, 2, 1))
 	loadLines(t, m, 0, 63)
 	for word := range 4 {
-		coherent.Soil(m, 0, 252+word, 10+word)
+		wantStore(t, m, 0, 252+word, 10+word, api.First)
 	}
 	wantLoad(t, m, 0, 0, 0, api.Memory)
 	for word := range 4 {
 		wantMemory(t, m, 252+word, 10+word)
 	}
 	wantMemory(t, m, 251, 0)
-	wantCounts(t, m, api.Counts{Loads: 2, Fetches: 2, Backs: 1, Writes: 1, Psel: 7})
+	wantCounts(t, m, api.Counts{Loads: 2, Stores: 4, Firsts: 4, Fetches: 2, Backs: 1, Writes: 1, Psel: 7})
 	wantLoad(t, m, 0, 253, 11, api.Memory)
-	wantCounts(t, m, api.Counts{Loads: 3, Fetches: 3, Backs: 2, Writes: 1, Psel: 7})
+	wantCounts(t, m, api.Counts{Loads: 3, Stores: 4, Firsts: 4, Fetches: 3, Backs: 2, Writes: 1, Psel: 7})
 }

@@ -30,6 +30,14 @@ func wantLoad(t *testing.T, m *coherent.Machine, core int, addr int, value int, 
 	}
 }
 
+func wantStore(t *testing.T, m *coherent.Machine, core int, addr int, value int, place int) {
+	t.Helper()
+	p, e := m.Store(core, addr, value)
+	if p != place || e != api.OK {
+		t.Errorf("P7: Store(%d, %d, %d) = %d, %d, want %d, OK", core, addr, value, p, e, place)
+	}
+}
+
 // loadLines loads the first word of each line, and does not care where it is found.
 func loadLines(t *testing.T, m *coherent.Machine, core int, lines ...int) {
 	t.Helper()
@@ -275,6 +283,11 @@ func wantErrors(t *testing.T, m *coherent.Machine, core int, n int, ofLine api.E
 	if v, p, e := m.Load(core, n); v != 0 || p != 0 || e != ofAddr {
 		t.Errorf("P6: Load(%d, %d) = %d, %d, %d, want 0, 0, %d", core, n, v, p, e, ofAddr)
 	}
+	for _, value := range []int{1, 0, smallest, biggest} {
+		if p, e := m.Store(core, n, value); p != 0 || e != ofAddr {
+			t.Errorf("P7: Store(%d, %d, %d) = %d, %d, want 0, %d", core, n, value, p, e, ofAddr)
+		}
+	}
 	if e := m.Evict(core, n); e != ofLine {
 		t.Errorf("P8: Evict(%d, %d) = %d, want %d", core, n, e, ofLine)
 	}
@@ -290,7 +303,7 @@ func TestErrorsChangeNothing(t *testing.T) {
 		m := newMachine(t, c)
 		loadLines(t, m, 0, 0, 63, 1)
 		loadLines(t, m, cores-1, 63, 2)
-		coherent.Soil(m, cores-1, 9, 1234)
+		wantStore(t, m, cores-1, 9, 1234, api.First)
 		before := *m
 		wrongCalls(t, m, cores)
 		if *m != before {
@@ -305,7 +318,7 @@ func TestTellingChangesNothing(t *testing.T) {
 	m := newMachine(t, c)
 	loadLines(t, m, 0, 0, 63, 1)
 	loadLines(t, m, 2, 63, 2)
-	coherent.Soil(m, 2, 9, 1234)
+	wantStore(t, m, 2, 9, 1234, api.First)
 	before := *m
 	for line := range api.Lines {
 		for core := range 3 {
@@ -329,7 +342,7 @@ func TestMachinesAreApart(t *testing.T) {
 	two := newMachine(t, c)
 	fresh := *two
 	loadLines(t, one, 0, 0, 1, 2, 3, 4, 5, 6)
-	coherent.Soil(one, 0, 24, 99)
+	wantStore(t, one, 0, 24, 99, api.First)
 	evict(t, one, 0, 5)
 	drain(t, one)
 	wantLoad(t, one, 1, 24, 99, api.Memory)
@@ -339,6 +352,8 @@ func TestMachinesAreApart(t *testing.T) {
 	kept := *one
 	drain(t, two)
 	loadLines(t, two, 1, 9, 10)
+	wantStore(t, two, 0, 24, 77, api.Memory)
+	wantLoad(t, two, 1, 24, 77, api.Last)
 	if *one != kept {
 		t.Error("P2: what happened in one machine changed another")
 	}

@@ -268,9 +268,41 @@ func (m *modelMachine) evict(core int, line int) {
 	m.firsts[core].remove(line)
 }
 
-func (m *modelMachine) soil(core int, addr int, value int) {
-	m.held[core][addr/4].words[addr%4] = value
-	m.held[core][addr/4].state = api.Dirty
+func (m *modelMachine) store(core int, addr int, value int) int {
+	line, word := addr/4, addr%4
+	m.counts.Stores++
+	place := api.First
+	switch m.state(core, line) {
+	case api.Dirty, api.Alone:
+		m.counts.Firsts++
+		m.firsts[core].touch(line)
+	case api.Shared:
+		m.counts.Firsts++
+		m.firsts[core].touch(line)
+		m.counts.Upgrades++
+		m.takeFromOthers(core, line)
+	default:
+		place = m.fetch(line)
+		m.takeFromOthers(core, line)
+		touched := m.firsts[core].touch(line)
+		if touched.Out != -1 {
+			m.evict(core, touched.Out)
+		}
+		m.held[core][line] = &modelCopy{words: m.lasts[line].words}
+	}
+	m.held[core][line].state = api.Dirty
+	m.held[core][line].words[word] = value
+	return place
+}
+
+func (m *modelMachine) takeFromOthers(core int, line int) {
+	for other := range m.config.Cores {
+		if other == core || m.held[other][line] == nil {
+			continue
+		}
+		m.evict(other, line)
+		m.counts.Takens++
+	}
 }
 
 func (m *modelMachine) drain() {

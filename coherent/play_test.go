@@ -29,7 +29,7 @@ type player struct {
 	machine *coherent.Machine
 	model   *modelMachine
 	lines   int // only lines below this one are loaded
-	last    int // the last value that was laid in
+	last    int // the last value that was stored
 }
 
 func newPlayer(t *testing.T, c api.Config, lines int) *player {
@@ -49,14 +49,12 @@ func (p *player) evict(t *testing.T, core int, line int) {
 	evict(t, p.machine, core, line)
 }
 
-// soil does nothing if the core has not the line for itself.
-func (p *player) soil(core int, addr int) {
-	if p.model.state(core, addr/4) < api.Alone {
-		return
-	}
+// store lays in a value that was never stored before, so that an old one is told from it.
+func (p *player) store(t *testing.T, core int, addr int) {
+	t.Helper()
 	p.last++
-	p.model.soil(core, addr, p.last)
-	coherent.Soil(p.machine, core, addr, p.last)
+	place := p.model.store(core, addr, p.last)
+	wantStore(t, p.machine, core, addr, p.last, place)
 }
 
 func (p *player) drain(t *testing.T) {
@@ -101,17 +99,20 @@ func (p *player) compare(t *testing.T) {
 	wantCounts(t, p.machine, counts)
 }
 
-// Every row of 4 calls, of 2 cores and 3 lines, in small machines. (As a drain may come first, that is every shorter row too.)
+// Every row of 4 calls, of 2 cores and 3 lines or 3 cores and 2 lines, in small machines, and a drain behind it. (As a drain may come first, that is every shorter row too.)
 func TestAllShortPlays(t *testing.T) {
-	const cores, lines, length = 2, 3, 4
-	const kinds = 3*cores*lines + 1
-	for _, c := range []api.Config{oneSet(cores, 1, 2), oneSet(cores, 2, 2)} {
+	const length = 4
+	const kinds = 3*2*3 + 1
+	for _, c := range []api.Config{oneSet(2, 1, 2), oneSet(2, 2, 2), oneSet(3, 1, 1), oneSet(3, 1, 2)} {
+		lines := 6 / c.Cores
 		for n := range kinds * kinds * kinds * kinds {
 			p := newPlayer(t, c, lines)
 			for range length {
-				p.step(t, n%kinds, cores, lines)
+				p.step(t, n%kinds, c.Cores, lines)
 				n = n / kinds
 			}
+			p.compare(t)
+			p.drain(t)
 			p.compare(t)
 			if t.Failed() {
 				t.Fatalf("machine %+v", c)
@@ -120,7 +121,7 @@ func TestAllShortPlays(t *testing.T) {
 	}
 }
 
-// step makes the call of this number: a load, an evict or a soil of a core and a line, or a drain.
+// step makes the call of this number: a load, an evict or a store of a core and a line, or a drain.
 func (p *player) step(t *testing.T, number int, cores int, lines int) {
 	t.Helper()
 	if number == 3*cores*lines {
@@ -134,7 +135,7 @@ func (p *player) step(t *testing.T, number int, cores int, lines int) {
 	case 1:
 		p.evict(t, core, line)
 	case 2:
-		p.soil(core, 4*line)
+		p.store(t, core, 4*line)
 	}
 }
 
@@ -146,8 +147,8 @@ func (d *dice) below(n int) int {
 	return int(d.seed>>16) % n
 }
 
-// roll makes some call: mostly loads, drains but seldom.
-func (p *player) roll(t *testing.T, d *dice, soils bool) {
+// roll makes some call: of 200 so many are stores, most others loads, drains but seldom.
+func (p *player) roll(t *testing.T, d *dice, stores int) {
 	t.Helper()
 	core, addr := d.below(p.model.config.Cores), d.below(4*p.lines)
 	kind := d.below(200)
@@ -156,8 +157,8 @@ func (p *player) roll(t *testing.T, d *dice, soils bool) {
 		p.drain(t)
 	case kind < 20:
 		p.evict(t, core, addr/4)
-	case kind < 60 && soils:
-		p.soil(core, addr)
+	case kind < 20+stores:
+		p.store(t, core, addr)
 	default:
 		p.load(t, core, addr)
 	}
@@ -170,7 +171,7 @@ func TestPlayEveryMachine(t *testing.T) {
 		p := newPlayer(t, c, c.LastSets*c.LastWays+2)
 		p.lines = min(p.lines, api.Lines)
 		for range 40 {
-			p.roll(t, d, n%3 == 0)
+			p.roll(t, d, 60*(n%3))
 		}
 		p.compare(t)
 		if t.Failed() || !coherent.Agrees(p.machine) {
@@ -188,7 +189,7 @@ func TestLongPlays(t *testing.T) {
 		lines := min(api.Lines, c.LastSets*c.LastWays*(1+round%3)+1)
 		p := newPlayer(t, c, lines)
 		for range 500 {
-			p.roll(t, d, round%2 == 0)
+			p.roll(t, d, 60*(round/4%4))
 			p.compare(t)
 			if t.Failed() {
 				t.Fatalf("machine %+v", c)
